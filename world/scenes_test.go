@@ -2,12 +2,15 @@ package world_test
 
 import (
 	"fmt"
+	"math/rand/v2"
 	"slices"
 	"strings"
 	"testing"
 
 	"synod/api"
 	"synod/codec"
+	"synod/net"
+	"synod/node"
 	"synod/shell"
 	"synod/text"
 	"synod/world"
@@ -122,6 +125,20 @@ func (w *watch) speaks(id int) {
 	w.says(say("pick", id, "work"), say("pick", id, "write"), say("pick", id, "sync"), say("pick", id, "send"))
 }
 
+// mailOf is the place of the first mail of this kind; -1, if there is none.
+func (w *watch) mailOf(kind int) int {
+	return slices.IndexFunc(w.w.Mail(), func(x net.Mail) bool {
+		m, _ := letter(x.Data)
+		return m.Kind == kind
+	})
+}
+
+// silent holds that a node has nothing to send.
+func (w *watch) silent(id int) {
+	w.t.Helper()
+	is(w.t, shownAll(w.step(pick(id, node.PSend))), "no")
+}
+
 // loses lets all mail be lost.
 func (w *watch) loses() {
 	w.t.Helper()
@@ -163,6 +180,9 @@ func TestP0_8_AVoteThroughACrash(t *testing.T) {
 			w.loses() // node 3 hears nothing of it
 			for _, s := range steps[:done] {
 				w.says("pick 2 " + s)
+			}
+			if done < 4 {
+				w.silent(2)
 			}
 			w.says(say("crash", 2, keep), "start 2 0")
 			kept := done >= 4 || done == 3 && keep >= 12
@@ -206,12 +226,44 @@ func TestP0_8_NothingAskedAheadOfTheSync(t *testing.T) {
 	for range 10 {
 		w.says("tick 1 0", "pick 1 tick")
 	}
-	w.says("pick 1 work", "pick 1 write")
-	is(t, shownAll(w.step(pick(1, 9))), "no")
+	w.says("pick 1 work")
+	w.silent(1)
+	w.says("pick 1 write")
+	w.silent(1)
 	w.says("crash 1 0", "start 1 0")
 	is(t, view(t, w.w, 1).Core.Term, 0)
 	w.asks(1)
 	is(t, len(w.w.Mail()), 2)
+}
+
+// A vote of an earlier term doesn't count for one that stands again.
+func TestP0_8_OldVotes(t *testing.T) {
+	w := scene(t, trio(0))
+	w.asks(1)
+	w.brings(2)
+	w.speaks(2)
+	w.asks(1)
+	w.asks(3)
+	w.asks(3)
+	is(t, say(view(t, w.w, 1).Core.Term, view(t, w.w, 2).Core.Term, view(t, w.w, 3).Core.Term), "2 1 2")
+	// Node 1 hears of the vote of term 1; node 3 gets the one of term 2.
+	for i, x := range w.w.Mail() {
+		if m, _ := letter(x.Data); m.Kind == api.MVoteAns {
+			w.says(say("deliver", i), "pick 1 inbox")
+			break
+		}
+	}
+	is(t, view(t, w.w, 1).Core.Role, api.Candidate)
+	for _, x := range slices.Backward(w.w.Mail()) {
+		at := slices.IndexFunc(w.w.Mail(), func(y net.Mail) bool { return y.Number == x.Number })
+		if x.From != 3 {
+			w.says(say("drop", at))
+		}
+	}
+	w.says("calm 3 1")
+	is(t, w.w.Leader(), 3)
+	is(t, view(t, w.w, 3).Core.Term, 2)
+	w.end()
 }
 
 // What an earlier term has left isn't committed by a quorum that has it: another one may still take its place.
@@ -273,6 +325,7 @@ func TestP0_9_Replaced(t *testing.T) {
 		is(t, replied(w.w.Get(id+1, "a")), "done z")
 	}
 	is(t, view(t, w.w, 1).Pending, 0)
+	is(t, say(w.back(1), w.back(2), w.counts["back lost"]), "open open 2")
 	w.end()
 }
 
@@ -306,6 +359,34 @@ func TestP0_10_ThroughCrashes(t *testing.T) {
 	}
 }
 
+// Whatever the order of the steps: behind a crash of all, as soon as a client was told of it, it is there.
+func TestP0_10_InAnyOrder(t *testing.T) {
+	for seed := range uint64(150) {
+		r := rand.New(rand.NewPCG(seed, 10))
+		w := scene(t, trio(int(seed%3)), "calm 1 11", "put 1 1 a x")
+		for w.back(1) != "done" {
+			if mails := len(w.w.Mail()); mails > 0 && r.IntN(3) == 0 {
+				w.step(deliver(r.IntN(mails)))
+			} else {
+				w.step(pick(1+r.IntN(3), 1+r.IntN(9)))
+			}
+			if r.IntN(200) == 0 {
+				w.step(tick(1, 0))
+			}
+		}
+		for id := range 3 {
+			w.says(say("crash", id+1, 0))
+		}
+		// The two that may know the least of it.
+		w.says("start 2 0", "start 3 0")
+		quick, _ := w.newest([]int{2, 3})
+		w.until(quick, "somebody leads", func() bool { return w.w.Leader() > 0 })
+		w.says(say("calm", quick, 2))
+		is(t, replied(w.w.Get(w.w.Leader(), "a")), "done x")
+		w.end()
+	}
+}
+
 // A leader that is alone, and doesn't know that another one leads, answers no read.
 func TestP0_11_NoOldReads(t *testing.T) {
 	w := scene(t, trio(0), "calm 1 12", "put 1 1 a old", "calm 1 2")
@@ -320,7 +401,7 @@ func TestP0_11_NoOldReads(t *testing.T) {
 	is(t, w.back(2), "open")
 	w.linked()
 	w.says("calm 2 3")
-	is(t, w.back(2), "open")
+	is(t, say(w.back(2), w.counts["back lead"]), "open 1")
 	w.says("again 2 2", "calm 2 2")
 	is(t, w.back(2), "done new")
 	w.end()
@@ -410,6 +491,77 @@ func TestP0_12_ManyTimes(t *testing.T) {
 	w.end()
 }
 
+// What a node answers leans on what it has written: it answers nothing ahead of the sync, whatever it was sent.
+func TestP0_14_NothingSentAheadOfTheSync(t *testing.T) {
+	for _, x := range []struct {
+		name  string
+		kind  int
+		begin func(w *watch)
+	}{
+		{"a vote", api.MVote, func(w *watch) { w.asks(1) }},
+		{"entries", api.MApp, func(w *watch) {
+			w.says("calm 1 12", "put 1 1 a x", "pick 1 call", "pick 1 work", "pick 1 send", "pick 1 send")
+		}},
+		{"a beat", api.MBeat, func(w *watch) {
+			w.says("calm 1 12", "tick 1 0", "pick 1 tick", "pick 1 work", "pick 1 send", "pick 1 send")
+		}},
+		{"a snapshot", api.MSnap, func(w *watch) {
+			w.says("calm 1 12", "crash 2 0", "put 1 1 a x", "calm 1 3", "put 1 1 b x", "calm 1 3", "start 2 0")
+			w.until(1, "a snapshot is sent", func() bool { return w.mailOf(api.MSnap) >= 0 })
+		}},
+	} {
+		w := scene(t, trio(1))
+		x.begin(w)
+		for at := 0; at < len(w.w.Mail()); {
+			if m, _ := letter(w.w.Mail()[at].Data); m.Kind != x.kind || m.To != 2 {
+				w.says(say("drop", at))
+			} else {
+				at++
+			}
+		}
+		if len(w.w.Mail()) == 0 {
+			t.Fatalf("%s isn't sent", x.name)
+		}
+		w.brings(2)
+		w.silent(2)
+		w.says("pick 2 work")
+		w.silent(2)
+		w.says("pick 2 write")
+		w.silent(2)
+		w.says("pick 2 sync", "pick 2 send", "crash 2 0", "start 2 0", "calm 1 3")
+		w.end()
+	}
+}
+
+// Where the disk fails amid a snapshot that came from the leader, and whatever is torn then, the node recovers, and goes on.
+func TestP0_14_ASnapshotTorn(t *testing.T) {
+	down := 0
+	for n := 1; n <= 12; n++ {
+		for _, keep := range []int{0, 9, 9999} {
+			// Node 1 has an entry that nobody else has, of an earlier term than the snapshot's.
+			w := scene(t, trio(2), "calm 1 12", "put 1 1 a x", "calm 1 1", "cut 1 2", "cut 1 3", "put 2 1 b lost", "calm 1 2", "crash 1 0")
+			w.leadsNow(2)
+			for i := range 6 {
+				w.says(say("put", 1, 2, "a", i), "calm 2 2")
+			}
+			w.linked()
+			w.says("start 1 0")
+			w.until(2, "a snapshot is sent", func() bool { return w.mailOf(api.MSnap) >= 0 })
+			w.says(say("arm", 1, n), "calm 2 2")
+			if _, up := w.w.View(1); !up {
+				down++
+			}
+			w.says(say("crash", 1, keep), "start 1 0", "crash 3 0")
+			w.goesOn([]int{1, 2})
+			is(t, replied(w.w.Get(1, "a")), "done 5")
+			is(t, replied(w.w.Get(1, "b")), "none")
+		}
+	}
+	if down < 18 {
+		t.Errorf("the disk failed %d times alone", down)
+	}
+}
+
 // Wherever it crashes, and whatever is torn, a node recovers; and goes on.
 func TestP0_14_EachStep(t *testing.T) {
 	steps := []string{"put 1 1 a x", "tick 2 80", "put 2 1 b y"}
@@ -451,17 +603,17 @@ func TestP0_15_FarBehind(t *testing.T) {
 	for _, every := range []int{1, 4, 30} {
 		w := scene(t, trio(every), "calm 1 12", "crash 3 0")
 		for i := range 50 {
-			w.play.do(put(1, 1, "a", say(i)))
-			w.play.do(calm(1, 1))
+			w.do(put(1, 1, "a", say(i)))
+			w.do(calm(1, 1))
 		}
 		is(t, replied(w.w.Get(2, "a")), "done 49")
-		w.play.do(crash(1, 0))
-		w.play.do(start(3, 0))
-		w.play.goesOn([]int{2, 3})
+		w.do(crash(1, 0))
+		w.do(start(3, 0))
+		w.goesOn([]int{2, 3})
 		is(t, replied(w.w.Get(3, "a")), "done 49")
-		w.play.do(start(1, 0))
-		w.play.do(crash(2, 0))
-		w.play.goesOn([]int{1, 3})
+		w.do(start(1, 0))
+		w.do(crash(2, 0))
+		w.goesOn([]int{1, 3})
 	}
 }
 
@@ -488,5 +640,53 @@ func TestP0_15_FarApart(t *testing.T) {
 				is(t, replied(p.w.Get(id+1, "a")), say("done done", done-1))
 			}
 		}
+	}
+}
+
+// A snapshot that is lost is sent again: without it the leader's term has nothing committed.
+func TestP0_15_ALostSnapshot(t *testing.T) {
+	w := scene(t, trio(2), "calm 1 12", "crash 3 0")
+	for i := range 9 {
+		w.says(say("put", 1, 1, "a", i), "calm 1 1")
+	}
+	w.says("crash 1 0", "start 3 0")
+	for range 3 {
+		w.until(2, "a snapshot is sent", func() bool { return w.mailOf(api.MSnap) >= 0 })
+		w.loses()
+	}
+	is(t, say(w.w.Leader(), view(t, w.w, 2).Core.Commit), "2 10")
+	w.goesOn([]int{2, 3})
+	is(t, replied(w.w.Get(3, "a")), "done 8")
+}
+
+// Entries that are lost are sent again, also where the window is full of them.
+func TestP0_15_LostEntries(t *testing.T) {
+	for _, window := range []int{1, 4} {
+		w := scene(t, fmt.Sprintf("world 3 3 10 1 1 %d 4 100 100 100 4096 12 8 8 8 8 12 0", window), "calm 1 12", "crash 3 0")
+		for i := range 20 {
+			w.says(say("put", 1, 1, "a", i), "calm 1 1")
+		}
+		w.says("crash 1 0", "start 3 0")
+		w.until(2, "node 3 has some", func() bool { return len(w.terms(3)) > 6 })
+		// What is on its way is lost, and all that comes of what was taken already.
+		for range 20 {
+			for id := 2; id <= 3; id++ {
+				for kind := node.PNotice; kind <= node.PSend; kind++ {
+					for w.step(pick(id, kind)).Did {
+					}
+				}
+			}
+			for _, x := range w.w.Mail() {
+				at := slices.IndexFunc(w.w.Mail(), func(y net.Mail) bool { return y.Number == x.Number })
+				if x.To == 3 {
+					w.says(say("drop", at))
+				} else {
+					w.says(say("deliver", at))
+				}
+			}
+		}
+		is(t, say(w.w.Leader(), view(t, w.w, 2).Core.Commit), "2 21")
+		w.goesOn([]int{2, 3})
+		is(t, replied(w.w.Get(3, "a")), "done 19")
 	}
 }
